@@ -1,0 +1,1 @@
+"""Setmend: hands whose sets differ by little, mended by few sums."""
