@@ -51,6 +51,8 @@ NO_SETS = (
     (-BIGGEST, 5),
     (5, 97 * 10 ** 57 + 6),
 )
+# Numbers that are no count and no sum.
+NO_COUNTS = (-1, 97, -2, 98, -96, -97, 194, 10 ** 59, -10 ** 59, BIGGEST, -BIGGEST, 97 * 10 ** 57 + 5)
 
 
 def some_sets(seed, many):
@@ -63,6 +65,20 @@ def some_numbers(seed, many):
     """Whole numbers of one to sixty figures, above and below nought, the same ones in each run."""
     chance = random.Random(seed)
     return [chance.choice((-1, 1)) * chance.randrange(10 ** chance.randint(1, 60)) for _ in range(many)]
+
+
+def multiplied(one, other):
+    """Two rows multiplied as rows of powers from the highest down are."""
+    product = [0] * (len(one) + len(other) - 1)
+    for place, number in enumerate(one):
+        for further, factor in enumerate(other):
+            product[place + further] += number * factor
+    return tuple(product)
+
+
+def changed(marks, others):
+    """The set that differs from this one in just these others."""
+    return tuple(sorted(set(marks) ^ set(others)))
 
 
 class MendCase(unittest.TestCase):

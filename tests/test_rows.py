@@ -6,22 +6,13 @@ import unittest
 import setmend.rows as rows
 from setmend.errors import NoInverse, NoSet
 from setmend.rows import inverse, noughts, row_of, worth
-from tests.helper import ALL_MARKS, BIGGEST, NO_SETS, SETS, MendCase, some_numbers, some_sets
+from tests.helper import ALL_MARKS, BIGGEST, NO_SETS, SETS, MendCase, multiplied, some_numbers, some_sets
 
 
 def power_by_power(row, x):
     """[5]'s sentence: the first number times the highest power of x, and so on, the last one alone."""
     highest = len(row) - 1
     return sum(number * x ** (highest - place) for place, number in enumerate(row)) % 97
-
-
-def multiplied(one, other):
-    """Two rows multiplied as rows of powers from the highest down are."""
-    product = [0] * (len(one) + len(other) - 1)
-    for place, number in enumerate(one):
-        for further, factor in enumerate(other):
-            product[place + further] += number * factor
-    return tuple(product)
 
 
 def some_rows(seed):
