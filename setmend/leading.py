@@ -7,18 +7,35 @@ from setmend.solving import solved
 from setmend.sums import refuse_unless_count, row_by, sums
 
 
+def limit(bound, more):
+    """In how many marks another set can differ at most, within the bound."""
+    most = min(bound, LAST_MARK)
+    if (most - more) % 2 != 0:
+        most -= 1
+    return most
+
+
 def reach(bound, more, many):
     """In how many marks another set may differ at most, for so many sums to lead to it."""
-    limit = min(bound, LAST_MARK)
-    if (limit - more) % 2 != 0:
-        limit -= 1
-    return min(limit, 2 * many - limit)
+    most = limit(bound, more)
+    return min(most, 2 * many - most)
+
+
+def needed(bound, more, far):
+    """The fewest sums that lead to another set within the bound, which differs in so many marks."""
+    # Limit and difference are both odd or both even, as more is: twice the sums are just both together.
+    return (limit(bound, more) + far) // 2
+
+
+def refuse_unless_bound(bound):
+    """Raise NoCount where a whole number is no bound."""
+    if bound < 0:
+        raise NoCount("a bound is 0 or more")
 
 
 def refuse_unless_told(bound, count, told):
     """Raise NoCount where these can't be told to a hand."""
-    if bound < 0:
-        raise NoCount("a bound is 0 or more")
+    refuse_unless_bound(bound)
     for number in [count, len(told), *told]:
         refuse_unless_count(number)
 

@@ -8,7 +8,7 @@ from setmend.sets import refuse_unless_set
 def refuse_unless_count(number):
     """Raise NoCount where a whole number isn't from 0 to 96."""
     if number < 0 or number >= WHEEL:
-        raise NoCount("a count and a sum are from 0 to 96")
+        raise NoCount("a count, a sum and a place are from 0 to 96")
 
 
 def sums(marks, many):

@@ -10,7 +10,8 @@ from setmend.leading import led, reach
 from setmend.sets import apart, mended
 from setmend.sums import sums
 from tests.helper import (
-    ALL_MARKS, BIGGEST, NO_COUNTS, NO_SETS, SETS, MendCase, changed, some_numbers, some_sets,
+    ALL_MARKS, BIGGEST, NO_COUNTS, NO_SETS, SETS, MendCase, changed, coset, differ, limit_of, needed, reach_of,
+    some_numbers, some_sets,
 )
 
 EVEN = tuple(range(2, 97, 2))
@@ -18,36 +19,11 @@ ODD = tuple(range(1, 97, 2))
 GREAT_BOUNDS = (96, 97, 98, 120, 10 ** 59, BIGGEST - 1, BIGGEST)
 
 
-def limit_of(bound, more):
-    """[11]'s first sentence: the greatest of the numbers that may be the limit."""
-    return max([-1] + [limit for limit in range(97) if limit <= bound and (limit - more) % 2 == 0])
-
-
-def reach_of(bound, more, many):
-    limit = limit_of(bound, more)
-    return min(limit, 2 * many - limit)
-
-
-def differ(one, other):
-    return len(set(one) ^ set(other))
-
-
-def needed(own, bound, other):
-    """The fewest sums of which twice is no fewer than the limit and the difference, together."""
-    together = limit_of(bound, len(other) - len(own)) + differ(own, other)
-    return (together + 1) // 2
-
-
 def near(own, far):
     """All sets that differ from the own one in at most so many marks."""
     for many in range(far + 1):
         for others in itertools.combinations(ALL_MARKS, many):
             yield changed(own, others)
-
-
-def coset(power, factor):
-    """The marks that come to 1 by a power, each times the factor."""
-    return tuple(sorted(mark * factor % 97 for mark in ALL_MARKS if mark ** power % 97 == 1))
 
 
 class InterfaceTest(MendCase):
